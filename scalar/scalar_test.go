@@ -140,6 +140,7 @@ func floorMod(a, b int32) int32 {
 	return int32(new(big.Int).Mod(number(a), number(b)).Int64())
 }
 
+// P1.1, for A1.
 func TestUnIsAsSpecified(t *testing.T) {
 	for op := api.UNeg; op <= api.UInt; op++ {
 		for _, a := range samples() {
@@ -150,6 +151,7 @@ func TestUnIsAsSpecified(t *testing.T) {
 	}
 }
 
+// P1.1, for A2.
 func TestBinIsAsSpecified(t *testing.T) {
 	for op := api.BAdd; op <= api.BGe; op++ {
 		for _, a := range samples() {
@@ -162,6 +164,7 @@ func TestBinIsAsSpecified(t *testing.T) {
 	}
 }
 
+// P1.1, for A1 and A2.
 func TestExamplesOfOperators(t *testing.T) {
 	for _, c := range []struct {
 		op         int
@@ -205,6 +208,7 @@ func strangers(low, high int) []int {
 	return list
 }
 
+// P1.1, for A1 and A2.
 func TestOtherOperatorsAreRefused(t *testing.T) {
 	for _, a := range []int32{least, -1, 0, 1, 65536, most} {
 		for _, op := range strangers(api.UNeg, api.UInt) {
@@ -220,6 +224,7 @@ func TestOtherOperatorsAreRefused(t *testing.T) {
 	}
 }
 
+// P1.2.
 func TestIntegersAreARing(t *testing.T) {
 	add := func(a, b int32) int32 { return bin(t, api.BAdd, a, b) }
 	mul := func(a, b int32) int32 { return bin(t, api.BMul, a, b) }
@@ -245,6 +250,7 @@ func TestIntegersAreARing(t *testing.T) {
 	}
 }
 
+// P1.3.
 func TestDivisionWithRemainder(t *testing.T) {
 	for _, a := range samples() {
 		for _, b := range samples() {
@@ -275,6 +281,7 @@ func roundsDown(v int32, n, d *big.Int) bool {
 	return rest.Sign() >= 0 && rest.Cmp(d) < 0 && wrap(low) == v
 }
 
+// P1.4.
 func TestFixedPointNumbers(t *testing.T) {
 	for _, a := range samples() {
 		if v, w := bin(t, api.BMulF, a, one), bin(t, api.BMulF, one, a); v != a || w != a {
@@ -301,6 +308,7 @@ func TestFixedPointNumbers(t *testing.T) {
 	}
 }
 
+// P1.5.
 func TestBits(t *testing.T) {
 	not := func(a int32) int32 { return un(t, api.UNot, a) }
 	for _, a := range samples() {
@@ -328,6 +336,7 @@ func TestBits(t *testing.T) {
 	}
 }
 
+// P1.6.
 func TestOrder(t *testing.T) {
 	for _, a := range samples() {
 		for _, b := range samples() {

@@ -10,6 +10,7 @@ import (
 	"warpwright/api"
 )
 
+// P1.1, for A4.
 func TestExamplesOfTexts(t *testing.T) {
 	for _, c := range []struct {
 		t int
@@ -30,6 +31,7 @@ func TestExamplesOfTexts(t *testing.T) {
 	}
 }
 
+// P1.1, for A4.
 func TestValuesWithoutTextAreRefused(t *testing.T) {
 	for _, v := range []int32{-1, 2, 3, 256, 65536, most, least} {
 		if s, e := Text(api.TBool, v); s != "" || e != api.ErrArg {
@@ -58,6 +60,7 @@ func refuse(t *testing.T, u int, s string) {
 	}
 }
 
+// P1.1, for A4.
 func TestOtherTextsAreRefused(t *testing.T) {
 	for _, s := range []string{"", "-", "--1", "-0", "00", "01", "-01", "+1", "1 ", " 1", "1\n", "1\x00", "1_0", "0x1", "1e3", "1.0", "1-", "2147483648", "-2147483649", "4294967296", "4294967297", "18446744073709551616", "18446744073709551617", "\u0661", "true", strings.Repeat("0", 1000) + "1", strings.Repeat("9", 1000000)} {
 		refuse(t, api.TInt, s)
@@ -80,6 +83,7 @@ func checkInverse(t *testing.T, u int, v int32) string {
 	return s
 }
 
+// P1.7.
 func TestTextsOfAllFractions(t *testing.T) {
 	for _, whole := range []int32{-32768, -32767, -2, -1, 0, 1, 9, 10, 32767} {
 		for fraction := int32(0); fraction < one; fraction++ {
@@ -92,6 +96,7 @@ func TestTextsOfAllFractions(t *testing.T) {
 	}
 }
 
+// P1.7.
 func TestTextsOfIntegers(t *testing.T) {
 	for _, v := range samples() {
 		if s := checkInverse(t, api.TInt, v); s != fmt.Sprint(v) {
@@ -143,6 +148,7 @@ func checkParse(t *testing.T, s string) {
 	}
 }
 
+// P1.1, for A4, and P1.7.
 func TestAllShortTexts(t *testing.T) {
 	const signs = "-+.01257 _e"
 	texts := []string{""}
@@ -161,6 +167,7 @@ func TestAllShortTexts(t *testing.T) {
 	}
 }
 
+// P1.1, for A4, and P1.7.
 func TestTextsNearOthers(t *testing.T) {
 	for _, v := range samples() {
 		for u := api.TInt; u <= api.TFix; u++ {

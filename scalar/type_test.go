@@ -32,6 +32,7 @@ func wantType(op, u int) (int, api.Errno) {
 	return 0, api.ErrType
 }
 
+// P1.1, for A3.
 func TestTypesAreAsSpecified(t *testing.T) {
 	for op := api.UNeg; op <= api.UInt; op++ {
 		for u := api.TInt; u <= api.TBool; u++ {
@@ -56,6 +57,7 @@ func TestTypesAreAsSpecified(t *testing.T) {
 	}
 }
 
+// P1.1, for A3.
 func TestTypesOfOtherOperatorsAreRefused(t *testing.T) {
 	for u := api.TInt; u <= api.TBool; u++ {
 		for _, op := range strangers(api.UNeg, api.UInt) {
@@ -73,6 +75,7 @@ func TestTypesOfOtherOperatorsAreRefused(t *testing.T) {
 	}
 }
 
+// P1.1, for A3.
 func TestOperatorsOfOtherTypesAreRefused(t *testing.T) {
 	for _, u := range strangers(api.TInt, api.TBool) {
 		for op := api.UNeg; op <= api.UInt; op++ {
@@ -102,6 +105,7 @@ func isValue(u int, v int32) bool {
 	return u != api.TBool || v == 0 || v == 1
 }
 
+// P1.8.
 func TestResultsHaveTheirTypes(t *testing.T) {
 	for u := api.TInt; u <= api.TBool; u++ {
 		for op := api.UNeg; op <= api.UInt; op++ {
